@@ -1,0 +1,1 @@
+"""Borderfloor: one piece, its border, and floors without end."""

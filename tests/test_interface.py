@@ -1,0 +1,135 @@
+"""The names and arguments of the interface, and what 2 says of whatever is handed in and told."""
+
+import importlib
+import inspect
+import unittest
+
+from borderfloor.cells import added, around, before, in_order, taken
+from borderfloor.errors import Apart, Hole, TooMany
+from borderfloor.pieces import moved, piece_of, settled
+from borderfloor.turns import turn_back, turn_behind, turned, turned_piece
+
+BIG = 10 ** 60 - 1
+
+FUNCTIONS = {
+    "cells": {
+        "before": ["one", "other"],
+        "in_order": ["some"],
+        "around": ["cell"],
+        "added": ["one", "other"],
+        "taken": ["one", "other"],
+    },
+    "pieces": {"piece_of": ["some"], "moved": ["piece", "shift"], "settled": ["piece"]},
+    "turns": {
+        "turned": ["pair", "k"],
+        "turned_piece": ["piece", "k"],
+        "turn_behind": ["k", "j"],
+        "turn_back": ["k"],
+    },
+}
+
+
+def grown(pair, times):
+    """What the program tells, handed in again and again: each time it is about doubled."""
+    for number in range(times):
+        pair = added(pair, pair)
+    return pair
+
+
+class NamesTest(unittest.TestCase):
+    def test_functions_and_their_arguments(self):
+        for module, functions in FUNCTIONS.items():
+            for name, arguments in functions.items():
+                with self.subTest(module=module, name=name):
+                    found = getattr(importlib.import_module("borderfloor." + module), name)
+                    self.assertTrue(inspect.isfunction(found))
+                    self.assertEqual(list(inspect.signature(found).parameters), arguments)
+
+
+class KindsTest(unittest.TestCase):
+    def whole(self, *numbers):
+        for number in numbers:
+            self.assertIs(type(number), int)
+
+    def test_numbers_told_are_no_truths(self):
+        self.whole(*added((0, 0), (0, 1)), *taken((1, 1), (0, 1)))
+        for cell in around((0, 0)):
+            self.whole(*cell)
+        for k in range(8):
+            self.whole(*turned((1, 0), k), turn_back(k))
+            for j in range(8):
+                self.whole(turn_behind(k, j))
+        for cell in settled(piece_of([(1, 1), (0, 1)])):
+            self.whole(*cell)
+
+    def test_truths_told_are_truths(self):
+        self.assertIs(before((0, 0), (1, 0)), True)
+        self.assertIs(before((1, 0), (0, 0)), False)
+
+    def test_like_answers_whatever_was_asked_between(self):
+        some = [(1, 0), (0, 0), (0, 1)]
+        first = (in_order(some), around((1, 0)), piece_of(some), turned_piece(piece_of(some), 5))
+        with self.assertRaises(Apart):
+            piece_of([(0, 0), (2, 2)])
+        in_order(some).clear()
+        around((1, 0)).clear()
+        self.assertEqual(
+            (in_order(some), around((1, 0)), piece_of(some), turned_piece(piece_of(some), 5)), first
+        )
+        self.assertEqual(some, [(1, 0), (0, 0), (0, 1)])
+
+    def test_two_hundred_things(self):
+        some = [(x % 5, x % 2) for x in range(200)]
+        self.assertEqual(len(in_order(some)), 200)
+        self.assertEqual(len(piece_of(some)), 10)
+
+
+class ManyFiguresTest(unittest.TestCase):
+    """What was told may be handed in again, however many figures it has."""
+
+    def setUp(self):
+        self.there = grown((BIG, -BIG), 20000)
+        self.x, self.y = self.there
+        self.assertEqual(self.x, BIG * 2 ** 20000)
+        self.assertEqual(self.y, -self.x)
+
+    def near(self, *pairs):
+        return [(self.x + x, self.y + y) for x, y in pairs]
+
+    def test_cells(self):
+        self.assertTrue(before((self.x, self.y), (self.x + 1, self.y)))
+        self.assertTrue(around(self.there) == self.near((1, 0), (0, 1), (-1, 0), (0, -1)))
+        self.assertTrue(in_order(self.near((1, 1), (0, 1), (5, 0))) == self.near((5, 0), (0, 1), (1, 1)))
+        self.assertEqual(taken(self.there, self.there), (0, 0))
+
+    def test_pieces(self):
+        piece = piece_of(self.near((1, 1), (0, 1), (1, 0)))
+        self.assertTrue(list(piece) == self.near((1, 0), (0, 1), (1, 1)))
+        self.assertEqual(settled(piece), ((1, 0), (0, 1), (1, 1)))
+        self.assertEqual(moved(piece, taken((0, 0), self.there)), ((1, 0), (0, 1), (1, 1)))
+
+    def test_refusals(self):
+        ring = [(x, y) for x in range(3) for y in range(3) if (x, y) != (1, 1)]
+        with self.assertRaises(Hole) as hole:
+            piece_of(self.near(*ring))
+        self.assertTrue([hole.exception.cell] == self.near((1, 1)))
+        with self.assertRaises(Apart) as apart:
+            piece_of([(0, 0), self.there])
+        self.assertTrue(apart.exception.cell == (0, 0))
+        with self.assertRaises(Apart) as apart:
+            piece_of(self.near((0, 0), (1, 1)))
+        self.assertTrue([apart.exception.cell] == self.near((1, 1)))
+        with self.assertRaises(TooMany):
+            piece_of(self.near(*[(x, 0) for x in range(11)]))
+        for error in (hole.exception, apart.exception):
+            self.assertNotEqual(str(error), "")
+
+    def test_turns(self):
+        for k in range(8):
+            self.assertTrue(turned(turned(self.there, k), turn_back(k)) == self.there)
+        piece = piece_of(self.near((0, 0), (1, 0)))
+        self.assertTrue(turned_piece(turned_piece(piece, 5), turn_back(5)) == piece)
+
+
+if __name__ == "__main__":
+    unittest.main()
