@@ -4,12 +4,15 @@ import importlib
 import inspect
 import unittest
 
+from borderfloor.borders import border_of, inside_of
 from borderfloor.cells import added, around, before, in_order, taken
-from borderfloor.errors import Apart, Hole, TooMany
+from borderfloor.drawings import drawing_of, read_drawing
+from borderfloor.errors import Apart, Backward, Crossed, Hole, Open, TooMany
+from borderfloor.grids import grid_of, leads_to, numbers_of, rest_of, rests_in, shift_of, turned_grid
 from borderfloor.pieces import moved, piece_of, settled
 from borderfloor.turns import turn_back, turn_behind, turned, turned_piece
-
-BIG = 10 ** 60 - 1
+from borderfloor.words import area_of, corners_of, way_of
+from helper import BIG
 
 FUNCTIONS = {
     "cells": {
@@ -25,6 +28,25 @@ FUNCTIONS = {
         "turned_piece": ["piece", "k"],
         "turn_behind": ["k", "j"],
         "turn_back": ["k"],
+    },
+    "drawings": {"drawing_of": ["piece"], "read_drawing": ["text"]},
+    "words": {
+        "corners_of": ["corner", "word"],
+        "way_of": ["word"],
+        "backwards": ["word"],
+        "turned_word": ["word", "k"],
+        "begun_at": ["word", "place"],
+        "area_of": ["word"],
+    },
+    "borders": {"border_of": ["piece"], "inside_of": ["corner", "word"]},
+    "grids": {
+        "rests_in": ["grid"],
+        "shift_of": ["grid", "i", "j"],
+        "numbers_of": ["grid", "shift"],
+        "rest_of": ["grid", "cell"],
+        "leads_to": ["grid", "cell"],
+        "grid_of": ["shifts"],
+        "turned_grid": ["grid", "k"],
     },
 }
 
@@ -61,6 +83,12 @@ class KindsTest(unittest.TestCase):
                 self.whole(turn_behind(k, j))
         for cell in settled(piece_of([(1, 1), (0, 1)])):
             self.whole(*cell)
+        for cell in read_drawing("##./.##") + inside_of((0, 0), "eenwws") + tuple(corners_of((0, 0), "en")):
+            self.whole(*cell)
+        self.whole(*way_of("en"), area_of("enws"), *border_of(((0, 0),))[0])
+        grid = grid_of([(2, 0), (1, 1)])
+        self.whole(*grid, rests_in(grid), *shift_of(grid, 1, 1), *numbers_of(grid, (1, 1)), *turned_grid(grid, 3))
+        self.whole(*rest_of(grid, (1, 1)), *leads_to(grid, (1, 1)))
 
     def test_truths_told_are_truths(self):
         self.assertIs(before((0, 0), (1, 0)), True)
@@ -129,6 +157,28 @@ class ManyFiguresTest(unittest.TestCase):
             self.assertTrue(turned(turned(self.there, k), turn_back(k)) == self.there)
         piece = piece_of(self.near((0, 0), (1, 0)))
         self.assertTrue(turned_piece(turned_piece(piece, 5), turn_back(5)) == piece)
+
+    def test_drawings_words_and_borders(self):
+        piece = piece_of(self.near((1, 0), (2, 0), (0, 1), (1, 1)))
+        self.assertEqual(drawing_of(piece), "##./.##")
+        corner, word = border_of(piece)
+        self.assertEqual(word, "eenwnwwses")
+        self.assertTrue(corners_of(corner, "en") == self.near((1, 0), (2, 0), (2, 1)))
+        self.assertTrue(inside_of(corner, word) == piece)
+        for kind, wrong in ((Open, "en"), (Crossed, "ewew"), (Backward, "nesw"), (TooMany, "eeeennnwwwwsss")):
+            with self.assertRaises(kind):
+                inside_of(corner, wrong)
+
+    def test_grids(self):
+        grid = (self.x, self.x - 1, self.x + 1)
+        self.assertTrue(rests_in(grid) == self.x * self.x + self.x)
+        shift = shift_of(grid, self.x, self.y)
+        self.assertTrue(numbers_of(grid, shift) == self.there)
+        self.assertIsNone(numbers_of(grid, added(shift, (1, 0))))
+        self.assertTrue(rest_of(grid, added(shift, (3, 4))) == (3, 4))
+        self.assertTrue(leads_to(grid, added(shift, (3, 4))) == shift)
+        self.assertTrue(grid_of([(self.x, 0), (self.x - 1, self.x + 1), shift]) == grid)
+        self.assertTrue(turned_grid(turned_grid(grid, 5), turn_back(5)) == grid)
 
 
 if __name__ == "__main__":
