@@ -4,11 +4,15 @@ import importlib
 import inspect
 import unittest
 
+from borderfloor.allgrids import grids_of
 from borderfloor.borders import border_of, inside_of
 from borderfloor.cells import added, around, before, in_order, taken
 from borderfloor.drawings import drawing_of, read_drawing
-from borderfloor.errors import Apart, Backward, Crossed, Hole, Open, TooMany
+from borderfloor.errors import Apart, Backward, Crossed, Hole, NotAsMany, Open, TooMany
 from borderfloor.grids import grid_of, leads_to, numbers_of, rest_of, rests_in, shift_of, turned_grid
+from borderfloor.layings import Laying, floors_of
+from borderfloor.neighbours import across, neighbours_of, parted_by
+from borderfloor.partings import grid_by, partings_of, shifts_by, stretches_of
 from borderfloor.pieces import moved, piece_of, settled
 from borderfloor.turns import turn_back, turn_behind, turned, turned_piece
 from borderfloor.words import area_of, corners_of, way_of
@@ -48,6 +52,21 @@ FUNCTIONS = {
         "grid_of": ["shifts"],
         "turned_grid": ["grid", "k"],
     },
+    "allgrids": {"grids_of": ["count"]},
+    "layings": {"floors_of": ["piece"]},
+    "partings": {
+        "partings_of": ["word"],
+        "stretches_of": ["word", "cuts"],
+        "shifts_by": ["word", "cuts"],
+        "grid_by": ["word", "cuts"],
+    },
+    "neighbours": {"across": ["piece"], "neighbours_of": ["piece", "grid"], "parted_by": ["piece", "grid"]},
+}
+
+# For each class: what it is made of, its methods with their arguments, the class it stands under.
+LAYING_METHODS = {"laid": [], "spot": ["half", "own"], "meets": [], "is_floor": [], "place_of": ["cell"]}
+CLASSES = {
+    "layings": {"Laying": (["piece", "grid"], LAYING_METHODS, object)},
 }
 
 
@@ -66,6 +85,18 @@ class NamesTest(unittest.TestCase):
                     found = getattr(importlib.import_module("borderfloor." + module), name)
                     self.assertTrue(inspect.isfunction(found))
                     self.assertEqual(list(inspect.signature(found).parameters), arguments)
+
+    def test_classes_and_their_methods(self):
+        for module, classes in CLASSES.items():
+            for name, (arguments, methods, base) in classes.items():
+                with self.subTest(module=module, name=name):
+                    found = getattr(importlib.import_module("borderfloor." + module), name)
+                    self.assertEqual(found.__bases__, (base,))
+                    self.assertEqual(list(inspect.signature(found).parameters), arguments)
+                    for method, handed in methods.items():
+                        self.assertEqual(
+                            list(inspect.signature(getattr(found, method)).parameters), ["self"] + handed
+                        )
 
 
 class KindsTest(unittest.TestCase):
@@ -89,6 +120,15 @@ class KindsTest(unittest.TestCase):
         grid = grid_of([(2, 0), (1, 1)])
         self.whole(*grid, rests_in(grid), *shift_of(grid, 1, 1), *numbers_of(grid, (1, 1)), *turned_grid(grid, 3))
         self.whole(*rest_of(grid, (1, 1)), *leads_to(grid, (1, 1)))
+        for told in grids_of(2) + floors_of(((0, 0), (1, 0))) + partings_of("eenwws") + shifts_by("enws", (0, 1)):
+            self.whole(*told)
+        for told in across(((0, 0),)) + neighbours_of(((0, 0),), (1, 0, 1)):
+            self.whole(*told)
+        self.whole(*grid_by("enws", (0, 1)), *parted_by(((0, 0),), (1, 0, 1)))
+        half, own, shift = Laying(((0, 0), (1, 0)), grid).place_of((1, 1))
+        self.whole(*own, *shift)
+        self.assertIs(half, False)
+        self.assertEqual([type(stretch) for stretch in stretches_of("enws", (0, 1))], [str, str])
 
     def test_truths_told_are_truths(self):
         self.assertIs(before((0, 0), (1, 0)), True)
@@ -179,6 +219,18 @@ class ManyFiguresTest(unittest.TestCase):
         self.assertTrue(leads_to(grid, added(shift, (3, 4))) == shift)
         self.assertTrue(grid_of([(self.x, 0), (self.x - 1, self.x + 1), shift]) == grid)
         self.assertTrue(turned_grid(turned_grid(grid, 5), turn_back(5)) == grid)
+
+    def test_floors(self):
+        piece = piece_of(self.near((1, 0), (2, 0), (0, 1), (1, 1)))
+        floors = [(2, 0, 2), (2, 1, 2), (4, 1, 1)]
+        self.assertEqual(floors_of(piece), floors)
+        self.assertEqual([parted_by(piece, grid) for grid in floors], [parted_by(settled(piece), grid) for grid in floors])
+        self.assertTrue(across(piece)[:2] == self.near((1, -1), (2, -1)))
+        half, own, shift = Laying(piece, (4, 1, 1)).place_of((0, 0))
+        self.assertTrue(added(own, shift) == (0, 0))
+        self.assertTrue(numbers_of((4, 1, 1), shift) is not None)
+        with self.assertRaises(NotAsMany):
+            Laying(piece, (self.x, 1, self.x))
 
 
 if __name__ == "__main__":
