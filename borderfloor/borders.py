@@ -6,8 +6,8 @@ from borderfloor.pieces import MOST_CELLS
 from borderfloor.words import STEPS, area_of, corners_of, way_of
 
 
-# The four sides of a cell, gone with the cell at the left hand: where each begins, its letter, and
-# the cell on the other side.
+# Each side is told as (corner, letter, cell across), gone with the cell at the left hand, as the
+# border goes.
 def sides_of(cell):
     x = cell[0]
     y = cell[1]

@@ -13,7 +13,7 @@ def shift_of(grid, i, j):
     return (i * grid[0] + j * grid[1], j * grid[2])
 
 
-# How often the two steps go whole into a pair: the pair less that shift is its rest.
+# Rounded down, below 0 too: so what is left of a pair lies among the rests.
 def whole_steps(grid, pair):
     j = pair[1] // grid[2]
     i = (pair[0] - j * grid[1]) // grid[0]
@@ -43,7 +43,8 @@ def common_measure(one, other):
     return abs(one)
 
 
-# Two shifts with the same sums as these two, the second one of y 0.
+# Taking one of two shifts from the other leaves all their sums as they are, and the y become less
+# and less until the second one is 0.
 def levelled(one, other):
     while other[1] != 0:
         times = one[1] // other[1]

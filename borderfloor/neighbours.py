@@ -5,7 +5,8 @@ from borderfloor.cells import added
 from borderfloor.layings import Laying
 from borderfloor.words import corners_of
 
-# From the corner where a step begins to the cell at its right hand.
+# A border has its piece at the left hand, so what lies across is at the right hand of each step:
+# told from the corner where the step begins.
 RIGHT_HAND = {"e": (0, -1), "n": (0, 0), "w": (-1, 0), "s": (-1, -1)}
 
 

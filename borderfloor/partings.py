@@ -5,7 +5,7 @@ from borderfloor.grids import grid_of
 from borderfloor.words import backwards, corners_of
 
 
-# Where each stretch begins and where it ends: at the next cut, the last one half the word behind the first cut.
+# The last stretch ends where the first one's fellow begins, half the word behind the first cut.
 def spans_of(word, cuts):
     ends = list(cuts[1:]) + [cuts[0] + len(word) // 2]
     return list(zip(cuts, ends))

@@ -3,6 +3,8 @@
 import itertools
 import random
 
+from borderfloor.errors import FloorError
+
 # The greatest whole number of sixty figures, and some far-out shifts made of it.
 BIG = 10 ** 60 - 1
 FAR = ((BIG, BIG), (-BIG, BIG), (BIG, -BIG), (-BIG, -BIG))
@@ -73,3 +75,19 @@ def drawn(text):
     """The settled cells of a drawing that leaves no row or column empty."""
     rows = text.split("/")[::-1]
     return ordered((x, y) for y, row in enumerate(rows) for x, sign in enumerate(row) if sign == "#")
+
+
+def differ_by_shift(grid, one, other):
+    """Whether one cell is the other one moved by a shift of the grid."""
+    a, b, d = grid
+    north, left = divmod(one[1] - other[1], d)
+    return left == 0 and (one[0] - other[0] - north * b) % a == 0
+
+
+def refusal(ask, *handed):
+    """The class of the refusal with which a call ends, or None."""
+    try:
+        ask(*handed)
+    except FloorError as error:
+        return type(error)
+    return None

@@ -12,9 +12,12 @@ from borderfloor.errors import Apart, Backward, Crossed, Hole, NotAsMany, Open, 
 from borderfloor.grids import grid_of, leads_to, numbers_of, rest_of, rests_in, shift_of, turned_grid
 from borderfloor.layings import Laying, floors_of
 from borderfloor.neighbours import across, neighbours_of, parted_by
+from borderfloor.papers import paper_of, shows
 from borderfloor.partings import grid_by, partings_of, shifts_by, stretches_of
 from borderfloor.pieces import moved, piece_of, settled
+from borderfloor.turnings import Turning, half_turned, turnings_of
 from borderfloor.turns import turn_back, turn_behind, turned, turned_piece
+from borderfloor.windows import window_of
 from borderfloor.words import area_of, corners_of, way_of
 from helper import BIG
 
@@ -61,12 +64,17 @@ FUNCTIONS = {
         "grid_by": ["word", "cuts"],
     },
     "neighbours": {"across": ["piece"], "neighbours_of": ["piece", "grid"], "parted_by": ["piece", "grid"]},
+    "turnings": {"half_turned": ["cell", "centre"], "turnings_of": ["piece"]},
+    "windows": {"window_of": ["laying", "cell", "wide", "high"]},
+    "papers": {"paper_of": ["piece", "grid"], "shows": ["piece", "grid", "paper"]},
 }
 
 # For each class: what it is made of, its methods with their arguments, the class it stands under.
 LAYING_METHODS = {"laid": [], "spot": ["half", "own"], "meets": [], "is_floor": [], "place_of": ["cell"]}
 CLASSES = {
     "layings": {"Laying": (["piece", "grid"], LAYING_METHODS, object)},
+    "turnings": {"Turning": (["piece", "grid", "centre"], LAYING_METHODS, Laying)},
+    "desk": {"Desk": ([], {"say": ["line"]}, object)},
 }
 
 
@@ -129,6 +137,15 @@ class KindsTest(unittest.TestCase):
         self.whole(*own, *shift)
         self.assertIs(half, False)
         self.assertEqual([type(stretch) for stretch in stretches_of("enws", (0, 1))], [str, str])
+        self.whole(*half_turned((1, 1), (2, 3)))
+        for there, centre in turnings_of(((0, 0),)):
+            self.whole(*there, *centre)
+        half, own, shift = Turning(((0, 0), (1, 0)), (4, 1, 1), (3, 0)).place_of((3, 0))
+        self.whole(*own, *shift)
+        self.assertIs(half, True)
+        for rest, own in paper_of(((0, 0), (1, 0)), grid)[1].items():
+            self.whole(*rest, *own)
+        self.whole(*paper_of(((0, 0), (1, 0)), (1, 0, 2))[3:])
 
     def test_truths_told_are_truths(self):
         self.assertIs(before((0, 0), (1, 0)), True)
@@ -231,6 +248,22 @@ class ManyFiguresTest(unittest.TestCase):
         self.assertTrue(numbers_of((4, 1, 1), shift) is not None)
         with self.assertRaises(NotAsMany):
             Laying(piece, (self.x, 1, self.x))
+
+    def test_turnings_windows_and_papers(self):
+        self.assertTrue(half_turned(self.there, (3, 5)) == (3 - self.x, 5 - self.y))
+        piece = piece_of(self.near((0, 0), (1, 0)))
+        centre = added(added(self.there, self.there), (3, 0))
+        turning = Turning(piece, (4, 1, 1), centre)
+        self.assertTrue(turning.place_of((self.x + 3, self.y)) == (True, self.there, (0, 0)))
+        self.assertEqual(window_of(turning, self.there, 5, 2), ["AabBA", "abBAa"])
+        self.assertEqual(len(turnings_of(piece)), 8)
+        with self.assertRaises(NotAsMany):
+            Turning(piece, (self.x, 1, self.x), centre)
+        for grid in grids_of(2):
+            paper = paper_of(piece, grid)
+            self.assertIs(shows(piece, grid, paper), True)
+            self.assertIs(shows(((0, 0), (1, 0)), grid, paper), False)
+        self.assertIs(shows(piece, (1, 0, 2), ("meet", piece[1], piece[0], self.x, self.y)), False)
 
 
 if __name__ == "__main__":

@@ -8,18 +8,12 @@ from borderfloor.allgrids import grids_of
 from borderfloor.errors import FloorError, NoFloor, NotAsMany
 from borderfloor.grids import numbers_of, shift_of
 from borderfloor.layings import Laying, floors_of
-from helper import BIG, FAR, chance_pieces, drawn, pieces_up_to, pieces_with, shifted
+from helper import BIG, FAR, chance_pieces, differ_by_shift, drawn, pieces_up_to, pieces_with, shifted
 
 ONE = ((0, 0),)
 LEANING = drawn("##./.##")
 DOMINO = ((0, 0), (1, 0))
 MANY = pieces_up_to(5) + chance_pieces(6, 12, 20) + chance_pieces(8, 12, 21) + chance_pieces(10, 12, 22)
-
-
-def differ_by_shift(grid, one, other):
-    a, b, d = grid
-    north, left = divmod(one[1] - other[1], d)
-    return left == 0 and (one[0] - other[0] - north * b) % a == 0
 
 
 def any_meet(piece, grid):

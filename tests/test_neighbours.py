@@ -5,12 +5,12 @@ import unittest
 
 from borderfloor.allgrids import grids_of
 from borderfloor.borders import border_of
-from borderfloor.errors import FloorError, NoFloor, NotAsMany
+from borderfloor.errors import NoFloor, NotAsMany
 from borderfloor.layings import Laying, floors_of
 from borderfloor.neighbours import across, neighbours_of, parted_by
 from borderfloor.partings import grid_by, partings_of, shifts_by, stretches_of
 from borderfloor.words import corners_of
-from helper import BIG, FAR, chance_pieces, drawn, pieces_up_to, shifted
+from helper import BIG, FAR, chance_pieces, drawn, pieces_up_to, refusal, shifted
 
 ONE = ((0, 0),)
 DOMINO = ((0, 0), (1, 0))
@@ -19,14 +19,6 @@ TEN = [drawn("##########"), drawn("#####/#####")]
 MANY = pieces_up_to(6) + chance_pieces(7, 60, 30) + chance_pieces(8, 60, 31) + chance_pieces(9, 60, 32)
 MANY += chance_pieces(10, 60, 33) + TEN
 BESIDE = {"e": ((0, 0), (0, -1)), "n": ((-1, 0), (0, 0)), "w": ((-1, -1), (-1, 0)), "s": ((0, -1), (-1, -1))}
-
-
-def refusal(ask, *handed):
-    try:
-        ask(*handed)
-    except FloorError as error:
-        return type(error)
-    return None
 
 
 class AcrossTest(unittest.TestCase):
